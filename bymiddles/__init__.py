@@ -1,0 +1,1 @@
+"""Bymiddles: one order for works whose windows are told and whose lengths are not."""

@@ -1,0 +1,143 @@
+"""0.2 to 0.5 and the interface: what holds for each function."""
+
+import copy
+import importlib
+import inspect
+import unittest
+
+from bymiddles.books import Book
+from bymiddles.errors import MiddleError
+from tests.plain import STRANGE, U, W, deep
+
+# Each function with calls of it, and the names of its arguments in the interface.
+CALLS = {
+    "books": {
+        "middle": ("book, work", [(W, 1)]),
+        "within": ("book, work", [(W, 0)]),
+        "there": ("book, lot", [(W, (1, None, 2))]),
+        "is_row": ("book, thing", [(W, (1, 0)), (W, [1])]),
+        "is_order": ("book, thing", [(W, (1, 0, 2))]),
+        "is_group": ("book, thing", [(W, (0, 2))]),
+        "is_lot": ("book, thing", [(W, (1, None, 2)), (W, [1, [2]])]),
+        "part": ("book, group", [(W, (0, 2))]),
+        "joined": ("one_book, other_book", [(W, U)]),
+        "shifted": ("book, by", [(W, 3)]),
+        "mirrored": ("book", [(W,)]),
+    },
+    "runs": {
+        "run": ("book, row, lot", [(W, (0, 1, 2), (5, 0, 4))]),
+        "serves": ("book, row, lot", [(W, (0, 1, 2), (5, 0, 4))]),
+        "lateness": ("book, row, lot", [(W, (0, 1, 2), (5, 0, 4))]),
+        "broken": ("book, row, lot", [(W, (1, 0, 2), (5, 0, 4))]),
+        "is_broken": ("book, row, lot, thing", [(W, (1, 0, 2), (5, 0, 4), (1, 2)), (W, (0,), (1, None, None), [[0]])]),
+        "room": ("book, row, lot, work", [(W, (1, 0, 2), (5, 0, 4), 2)]),
+    },
+    "serving": {
+        "row_for": ("book, lot", [(U, (3, 2))]),
+        "least_late": ("book, lot", [(U, (3, 2))]),
+        "many_rows": ("book, lot", [(U, (3, 2))]),
+        "ends": ("book, lot", [(U, (3, 2))]),
+        "is_ends": ("book, lot, thing", [(U, (3, 2), {(): 0, (0,): 3, (1,): 6, (0, 1): 6}), (U, (3, 2), {0: [1]})]),
+        "room_any": ("book, lot, work", [(U, (3, 2), 0)]),
+    },
+}
+
+LISTED = [(module, name) for module in CALLS for name in CALLS[module]]
+
+
+def found(module, name):
+    """The function of this name."""
+    return getattr(importlib.import_module("bymiddles." + module), name)
+
+
+def frozen(thing):
+    """A thing as a text that tells all of it, the windows of books too."""
+    if isinstance(thing, Book):
+        return "Book" + repr(thing.windows)
+    if isinstance(thing, dict):
+        return "{" + ", ".join(frozen(key) + ": " + frozen(thing[key]) for key in thing) + "}"
+    if isinstance(thing, (list, tuple)):
+        return type(thing).__name__ + "(" + ", ".join(frozen(item) for item in thing) + ")"
+    return repr(thing)
+
+
+def containers(thing):
+    """The lists and dicts in a thing."""
+    inside = []
+    if isinstance(thing, (list, tuple)):
+        inside = list(thing)
+    if isinstance(thing, dict):
+        inside = list(thing.values())
+    own = [thing] if isinstance(thing, (list, dict)) else []
+    return own + [one for item in inside for one in containers(item)]
+
+
+class General(unittest.TestCase):
+    def test_interface(self):
+        for module, name in LISTED:
+            function = found(module, name)
+            self.assertEqual(function.__module__, "bymiddles." + module)
+            self.assertEqual(", ".join(inspect.signature(function).parameters), CALLS[module][name][0], name)
+        self.assertEqual(Book.__module__, "bymiddles.books")
+        self.assertIn("__eq__", vars(Book))
+        self.assertEqual(vars(W), {"windows": ((0, 10), (2, 5), (4, 9))})
+
+    def test_arguments_stay_as_they_were(self):
+        for module, name in LISTED:
+            for call in CALLS[module][name][1]:
+                before = frozen(call)
+                found(module, name)(*call)
+                self.assertEqual(frozen(call), before, name)
+
+    def test_equal_calls_give_equal_answers(self):
+        for module, name in LISTED:
+            for call in CALLS[module][name][1]:
+                first = found(module, name)(*call)
+                second = found(module, name)(*copy.deepcopy(call))
+                self.assertEqual(frozen(first), frozen(second), name)
+
+    def test_lists_and_dicts_are_new(self):
+        for module, name in LISTED:
+            for call in CALLS[module][name][1]:
+                answer = found(module, name)(*call)
+                before = frozen(answer)
+                others = containers(found(module, name)(*call)) + containers(call)
+                for one in containers(answer):
+                    self.assertFalse(any(one is other for other in others), name)
+                    one.clear()
+                self.assertEqual(frozen(found(module, name)(*call)), before, name)
+
+    def test_judges_return_flags(self):
+        for module, name in LISTED:
+            if name.startswith("is_"):
+                for call in CALLS[module][name][1]:
+                    for thing in STRANGE + [call[-1]]:
+                        self.assertIsInstance(found(module, name)(*call[:-1], thing), bool, name)
+
+    def test_wrong_arguments_raise_no_other_errors(self):
+        for module, name in LISTED:
+            for call in CALLS[module][name][1]:
+                for at in range(1, len(call)):
+                    if name != "joined":
+                        self.no_other_error(found(module, name), call, at)
+
+    def no_other_error(self, function, call, at):
+        """Calls it with each strange thing in one place."""
+        for thing in STRANGE + [deep(tuple, 39), deep(list, 39), deep(dict, 39)]:
+            before = frozen(thing)
+            try:
+                function(*call[:at], thing, *call[at + 1:])
+            except MiddleError:
+                pass
+            self.assertEqual(frozen(thing), before)
+
+
+class Kinds(unittest.TestCase):
+    def test_numbers_are_integers_and_no_flags(self):
+        for module, name in LISTED:
+            for call in CALLS[module][name][1]:
+                answer = found(module, name)(*call)
+                if name in ("middle", "many_rows", "least_late", "lateness", "room", "room_any"):
+                    self.assertIs(type(answer), int, name)
+                if name == "serves":
+                    self.assertIs(type(answer), bool, name)
