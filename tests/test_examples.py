@@ -2,13 +2,27 @@
 
 import unittest
 
+from bymiddles.bars import bar, barred
 from bymiddles.books import middle, within
+from bymiddles.holding import is_cover, most, most_of
+from bymiddles.orders import all_orders, one_order, throws
 from bymiddles.runs import broken, lateness, run
 from bymiddles.serving import ends, room_any
-from tests.plain import U, W
+from tests.plain import U, V, W
 
 
 class Examples(unittest.TestCase):
+    def test_e01(self):
+        self.assertEqual(throws(W, (1, 0, 2)), [("back", 0, 2, 1), ("front", 0, 1, 2)])
+
+    def test_e02(self):
+        self.assertEqual(one_order(V), (0, 1, 2))
+        self.assertEqual(all_orders(U), [(0, 1), (1, 0)])
+
+    def test_e03(self):
+        self.assertIsNone(one_order(W))
+        self.assertEqual(bar(W)[0], (0, 1, 2))
+
     def test_e04(self):
         self.assertEqual(run(W, (0, 1, 2), (5, 0, 4)), ((0, 0, 5), (1, 5, 5), (2, 5, 9)))
 
@@ -16,11 +30,21 @@ class Examples(unittest.TestCase):
         self.assertEqual(broken(W, (1, 0, 2), (5, 0, 4)), [(1, 2)])
         self.assertEqual(lateness(W, (1, 0, 2), (5, 0, 4)), 2)
 
+    def test_e06(self):
+        self.assertEqual(most(W, (0, 1, 2)), 9)
+        self.assertIs(is_cover(W, (0, 1, 2), ((0, 2),)), True)
+
+    def test_e07(self):
+        self.assertEqual(most_of(W, (1, 2)), 7)
+
     def test_e09(self):
         self.assertEqual(ends(U, (3, 2)), {(): 0, (0,): 3, (1,): 6, (0, 1): 6})
 
     def test_e10(self):
         self.assertEqual(room_any(U, (3, 2), 0), 4)
+
+    def test_e11(self):
+        self.assertEqual(barred(W), [(0, 1, 2)])
 
     def test_e15(self):
         self.assertEqual(middle(W, 1), 7)

@@ -5,9 +5,16 @@ import importlib
 import inspect
 import unittest
 
+from bymiddles.bars import bar
 from bymiddles.books import Book
 from bymiddles.errors import MiddleError
 from tests.plain import STRANGE, U, W, deep
+
+
+def kept(group):
+    """A rule that leaves the works as they stand."""
+    return group
+
 
 # Each function with calls of it, and the names of its arguments in the interface.
 CALLS = {
@@ -40,7 +47,36 @@ CALLS = {
         "is_ends": ("book, lot, thing", [(U, (3, 2), {(): 0, (0,): 3, (1,): 6, (0, 1): 6}), (U, (3, 2), {0: [1]})]),
         "room_any": ("book, lot, work", [(U, (3, 2), 0)]),
     },
+    "holding": {
+        "most": ("book, row", [(W, (0, 1, 2))]),
+        "filled": ("book, row", [(W, (0, 1, 2))]),
+        "cover": ("book, row", [(W, (0, 1, 2))]),
+        "is_filled": ("book, row, thing", [(W, (0, 1, 2), (5, 0, 4)), (W, (0, 1, 2), [[5], 0, 4])]),
+        "is_cover": ("book, row, thing", [(W, (0, 1, 2), ((0, 2),)), (W, (0, 1, 2), [(0, 2)]), (W, (0,), [[0, 0]])]),
+        "most_of": ("book, group", [(W, (1, 2))]),
+        "row_of": ("book, group", [(W, (1, 2))]),
+    },
+    "orders": {
+        "throws": ("book, order", [(W, (1, 0, 2))]),
+        "is_one_order": ("book, thing", [(U, (1, 0)), (U, [1, 0])]),
+        "one_order": ("book", [(U,), (W,)]),
+        "many_orders": ("book", [(U,), (W,)]),
+        "order_at": ("book, number", [(U, 1)]),
+        "all_orders": ("book", [(U,), (W,)]),
+    },
+    "bars": {
+        "bar": ("book", [(U,), (W,)]),
+        "is_bar": ("book, thing", [(W, bar(W)), (W, ((0, 1, 2), {(0, 1, 2): [1]}))]),
+        "barred": ("book", [(W,)]),
+    },
+    "strangers": {
+        "refuted": ("book, order", [(W, (0, 1, 2)), (W, (1, 0, 2)), (U, (1, 0))]),
+        "is_refuted": ("book, order, thing", [(W, (1, 0, 2), ((5, 0, 4), (0, 1, 2))), (W, (1, 0, 2), ([1], [2]))]),
+        "rule_refuted": ("book, rule", [(W, kept), (U, kept)]),
+    },
 }
+
+INTEGERS = ["middle", "many_rows", "least_late", "lateness", "room", "room_any", "most", "most_of", "many_orders"]
 
 LISTED = [(module, name) for module in CALLS for name in CALLS[module]]
 
@@ -118,7 +154,7 @@ class General(unittest.TestCase):
         for module, name in LISTED:
             for call in CALLS[module][name][1]:
                 for at in range(1, len(call)):
-                    if name != "joined":
+                    if name not in ("joined", "rule_refuted"):
                         self.no_other_error(found(module, name), call, at)
 
     def no_other_error(self, function, call, at):
@@ -137,7 +173,7 @@ class Kinds(unittest.TestCase):
         for module, name in LISTED:
             for call in CALLS[module][name][1]:
                 answer = found(module, name)(*call)
-                if name in ("middle", "many_rows", "least_late", "lateness", "room", "room_any"):
+                if name in INTEGERS:
                     self.assertIs(type(answer), int, name)
                 if name == "serves":
                     self.assertIs(type(answer), bool, name)
