@@ -108,7 +108,7 @@ def rule_refuted(book, rule):
     """The triple (group, lot, row) that refutes a rule at the first group where it can be refuted, or None."""
     if len(book.windows) > MOST_FOR_RULES:
         raise TooMany(MOST_FOR_RULES)
-    for group in groups_of(range(len(book.windows)))[1:]:
+    for group in groups_of(list(range(len(book.windows))))[1:]:
         row = rule(group)
         if not is_row_of(book, group, row):
             raise NoRule(group)

@@ -16,6 +16,10 @@ split splitlines startswith strip update upper values zfill bit_length""".split(
 
 LIBRARY = {"itertools": ["combinations", "permutations", "product"], "math": ["factorial"]}
 
+ITERATORS = ["range", "zip", "enumerate", "reversed", "items", "keys", "values"]
+
+ITERATED_BY = ["list", "tuple", "dict", "sorted", "sum", "any", "all", "enumerate", "zip", "min", "max"]
+
 BARRED = """type typing enum Enum Flag Generic Protocol ABC register mro elements open input law eval exec id globals locals
 vars super help dir getattr setattr hasattr""".split()
 
@@ -50,6 +54,30 @@ def defined(tree):
         if isinstance(node, ast.ImportFrom):
             names.extend(alias.name for alias in node.names)
     return names
+
+
+def called(node):
+    """The name of what a node calls, None if it is no call."""
+    if not isinstance(node, ast.Call):
+        return None
+    return node.func.attr if isinstance(node.func, ast.Attribute) else getattr(node.func, "id", None)
+
+
+def iterated_at_once(nodes):
+    """The ids of the nodes that stand where L23 lets a range, a zip or a view stand."""
+    places = []
+    for node in nodes:
+        if isinstance(node, (ast.For, ast.comprehension)):
+            places.append(id(node.iter))
+        if called(node) in ITERATED_BY and node.args:
+            places.append(id(node.args[0]))
+        if called(node) == "len" and called(node.args[0]) in ("range", "items"):
+            places.append(id(node.args[0]))
+        if called(node) == "reversed" and called(node.args[0]) == "range":
+            places.append(id(node.args[0]))
+        if isinstance(node, ast.Compare) and isinstance(node.ops[0], (ast.In, ast.NotIn)):
+            places.extend(id(other) for other in node.comparators if called(other) in ("range", "keys"))
+    return places
 
 
 class Language(unittest.TestCase):
@@ -108,6 +136,14 @@ class Language(unittest.TestCase):
                     self.assertIn(node.func.id, own + BUILTINS + ["rule"], (name, node.lineno))
                 if isinstance(node, ast.Call) and isinstance(node.func, ast.Attribute):
                     self.assertIn(node.func.attr, METHODS, (name, node.lineno))
+
+    def test_ranges_and_views_are_iterated_at_once(self):
+        for name in files():
+            nodes = nodes_of(name)
+            places = iterated_at_once(nodes)
+            for node in nodes:
+                if called(node) in ITERATORS:
+                    self.assertIn(id(node), places, (name, node.lineno))
 
     def test_imports(self):
         homes = {}
