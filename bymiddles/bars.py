@@ -3,8 +3,9 @@
 from itertools import combinations, permutations
 
 from bymiddles.books import is_group, is_lot, is_row_of, part, there
-from bymiddles.errors import TooMany
+from bymiddles.checks import check_works
 from bymiddles.kinds import is_pair
+from bymiddles.listing import works_of
 from bymiddles.orders import has_one_order
 from bymiddles.runs import is_served
 from bymiddles.strangers import against_row
@@ -19,7 +20,8 @@ def is_stuck(book, group):
 
 def first_stuck_three(book):
     """The least group of three works without a one order, or None."""
-    for group in combinations(list(range(len(book.windows))), 3):
+    works = works_of(book)
+    for group in combinations(works, 3):
         if is_stuck(book, group):
             return group
     return None
@@ -40,7 +42,7 @@ def least_stuck(book):
     if has_one_order(book):
         return None
     # Where no three are stuck, four are, and then no thinned group can have any other number of works.
-    return first_stuck_three(book) or thinned(book, tuple(range(len(book.windows))))
+    return first_stuck_three(book) or thinned(book, tuple(works_of(book)))
 
 
 def filled_up(row, group):
@@ -87,9 +89,8 @@ def is_bar(book, thing):
 
 def barred(book):
     """The ascending list of the groups of three or four works that are stuck while no lesser group is."""
-    if len(book.windows) > MOST_FOR_BARRED:
-        raise TooMany(MOST_FOR_BARRED)
-    works = list(range(len(book.windows)))
+    check_works(book, MOST_FOR_BARRED)
+    works = works_of(book)
     threes = [group for group in combinations(works, 3) if is_stuck(book, group)]
     fours = [group for group in combinations(works, 4) if is_stuck(book, group)]
     return sorted(threes + [group for group in fours if not has_lesser(group, threes)])

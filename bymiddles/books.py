@@ -127,6 +127,11 @@ def shifted(book, by):
     return unbounded([(first + by, last + by) for first, last in book.windows])
 
 
+def hours_between(book, one, other):
+    """How many hours there are from the first hour of the one work to the last hour of the other, perhaps below 0."""
+    return book.windows[other][1] - book.windows[one][0]
+
+
 def last_of_all(book):
     """The greatest last hour."""
     return max([last for first, last in book.windows])

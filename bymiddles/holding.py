@@ -2,7 +2,7 @@
 
 from itertools import permutations
 
-from bymiddles.books import is_group, is_lot, is_row, there
+from bymiddles.books import hours_between, is_group, is_lot, is_row, there
 from bymiddles.errors import NoGroup, NoRow, TooMany
 from bymiddles.kinds import is_integer, is_pair
 from bymiddles.runs import is_served
@@ -59,6 +59,16 @@ def packed(book, row, works):
     return tuple(lot)
 
 
+def hours_in(pairs):
+    """How many hours lie in one of these spans or more, each of which begins and ends no earlier than those ahead."""
+    many = 0
+    taken = 0
+    for begin, end in pairs:
+        many += end - max(begin, taken)
+        taken = end
+    return many
+
+
 def load(lot):
     """The sum of the lengths of those that are there."""
     return sum([item for item in lot if item is not None])
@@ -66,8 +76,8 @@ def load(lot):
 
 def held(book, row):
     """As most, for a row that is known to be right."""
-    lot = packed(book, row, row)
-    return None if lot is None else load(lot)
+    pairs = spans(book, row)
+    return None if pairs is None else hours_in(pairs)
 
 
 def most(book, row):
@@ -125,7 +135,7 @@ def is_covering(row, thing):
 
 def worth(book, row, pairs):
     """The worth of a cover."""
-    return sum([book.windows[row[b]][1] - book.windows[row[a]][0] for a, b in pairs])
+    return sum([hours_between(book, row[a], row[b]) for a, b in pairs])
 
 
 def is_cover(book, row, thing):

@@ -18,6 +18,11 @@ def without(group, at):
     return group[:at] + group[at + 1:]
 
 
+def those_in(row, group):
+    """The works of a row that are in a group too, as they stand in the row."""
+    return tuple([work for work in row if work in group])
+
+
 def groups_of(works):
     """The list of all groups of these ascending works: those of fewer works first, then ascending."""
     listed = list(works)

@@ -4,7 +4,8 @@ from itertools import permutations
 from math import factorial
 
 from bymiddles.books import is_inside, is_order, middle
-from bymiddles.errors import NoNumber, NoOrder, TooMany
+from bymiddles.checks import check_order
+from bymiddles.errors import NoNumber, TooMany
 from bymiddles.kinds import is_integer
 
 MOST_OF_ONE_MIDDLE = 8
@@ -38,8 +39,7 @@ def row_throws(book, row):
 
 def throws(book, order):
     """The ascending list of all throws of an order."""
-    if not is_order(book, order):
-        raise NoOrder()
+    check_order(book, order)
     return row_throws(book, order)
 
 

@@ -2,10 +2,11 @@
 
 from itertools import permutations
 
-from bymiddles.books import is_lot, is_order, is_row_of, there
-from bymiddles.errors import NoOrder, NoRule, TooMany
+from bymiddles.books import hours_between, is_row_of
+from bymiddles.checks import check_order, check_works, is_lot_and_row
+from bymiddles.errors import NoRule
 from bymiddles.holding import load, packed
-from bymiddles.kinds import groups_of, is_pair
+from bymiddles.listing import full_groups_of, works_of
 from bymiddles.orders import row_throws
 from bymiddles.runs import is_served
 
@@ -14,7 +15,7 @@ MOST_FOR_RULES = 5
 
 def lot_of(book, lengths):
     """The lot with the lengths of this dict; the others fall away."""
-    return tuple([lengths.get(work) for work in range(len(book.windows))])
+    return tuple([lengths.get(work) for work in works_of(book)])
 
 
 def against_middle(book, a, b):
@@ -22,8 +23,8 @@ def against_middle(book, a, b):
 
     Both together are an hour too long for the row with a ahead, but not for the other one.
     """
-    total = max(0, book.windows[b][1] - book.windows[a][0] + 1)
-    longest = book.windows[a][1] - book.windows[a][0]
+    total = max(0, hours_between(book, a, b) + 1)
+    longest = hours_between(book, a, a)
     lengths = {a: min(total, longest), b: total - min(total, longest)}
     return lot_of(book, lengths), (b, a)
 
@@ -65,20 +66,16 @@ def against_row(book, row):
 
 def refuted(book, order):
     """A lot of as few works as can be, and a row of them that serves it while the order does not; or None."""
-    if not is_order(book, order):
-        raise NoOrder()
+    check_order(book, order)
     return against_row(book, order)
 
 
 def is_refuted(book, order, thing):
     """Whether a thing is such a pair, with any number of works there."""
-    if not is_order(book, order):
-        raise NoOrder()
-    if not is_pair(thing):
+    check_order(book, order)
+    if not is_lot_and_row(book, thing):
         return False
     lot, row = thing
-    if not is_lot(book, lot) or not is_row_of(book, there(book, lot), row):
-        return False
     return is_served(book, row, lot) and not is_served(book, order, lot)
 
 
@@ -90,7 +87,7 @@ def overfull(book, row, other):
     for at, one in enumerate(row):
         for to in range(at, len(row)):
             lot = packed(book, other, row[at:to + 1])
-            if lot is not None and load(lot) > book.windows[row[to]][1] - book.windows[one][0]:
+            if lot is not None and load(lot) > hours_between(book, one, row[to]):
                 return lot
     return None
 
@@ -106,9 +103,8 @@ def outdone(book, row):
 
 def rule_refuted(book, rule):
     """The triple (group, lot, row) that refutes a rule at the first group where it can be refuted, or None."""
-    if len(book.windows) > MOST_FOR_RULES:
-        raise TooMany(MOST_FOR_RULES)
-    for group in groups_of(list(range(len(book.windows))))[1:]:
+    check_works(book, MOST_FOR_RULES)
+    for group in full_groups_of(book):
         row = rule(group)
         if not is_row_of(book, group, row):
             raise NoRule(group)

@@ -118,3 +118,27 @@ def great_book(times):
     for at in range(1, times):
         book = joined(book, shifted(forty, 40 * at))
     return book
+
+
+def served_by(windows, absent=True):
+    """From each small lot that some order serves to the list of the orders that serve it."""
+    orders = list(permutations(range(len(windows))))
+    table = {}
+    for lot in small_lots(windows, absent):
+        found = [order for order in orders if plain_serves(windows, order, lot)]
+        if found:
+            table[lot] = found
+    return table
+
+
+def changed(thing, at, item):
+    """A tuple with another item at this place."""
+    return thing[:at] + (item,) + thing[at + 1:]
+
+
+def raised(case, error, call, *arguments):
+    """The error of just this class that a call raises."""
+    with case.assertRaises(error) as caught:
+        call(*arguments)
+    case.assertIs(type(caught.exception), error)
+    return caught.exception

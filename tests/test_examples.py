@@ -5,6 +5,7 @@ import unittest
 from bymiddles.bars import bar, barred
 from bymiddles.books import middle, within
 from bymiddles.holding import is_cover, most, most_of
+from bymiddles.later import least_regret, notice
 from bymiddles.orders import all_orders, one_order, throws
 from bymiddles.runs import broken, lateness, run
 from bymiddles.serving import ends, room_any
@@ -37,6 +38,9 @@ class Examples(unittest.TestCase):
     def test_e07(self):
         self.assertEqual(most_of(W, (1, 2)), 7)
 
+    def test_e08(self):
+        self.assertEqual(least_regret(W), (2, (1, 0, 2)))
+
     def test_e09(self):
         self.assertEqual(ends(U, (3, 2)), {(): 0, (0,): 3, (1,): 6, (0, 1): 6})
 
@@ -45,6 +49,9 @@ class Examples(unittest.TestCase):
 
     def test_e11(self):
         self.assertEqual(barred(W), [(0, 1, 2)])
+
+    def test_e13(self):
+        self.assertEqual(notice(W, (1, 0, 2)), 2)
 
     def test_e15(self):
         self.assertEqual(middle(W, 1), 7)

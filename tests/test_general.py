@@ -8,7 +8,10 @@ import unittest
 from bymiddles.bars import bar
 from bymiddles.books import Book
 from bymiddles.errors import MiddleError
-from tests.plain import STRANGE, U, W, deep
+from bymiddles.shelves import shelf
+from tests.plain import STRANGE, U, V, W, deep
+
+SMALL = Book(((0, 8), (2, 5), (4, 7)))
 
 
 def kept(group):
@@ -74,9 +77,43 @@ CALLS = {
         "is_refuted": ("book, order, thing", [(W, (1, 0, 2), ((5, 0, 4), (0, 1, 2))), (W, (1, 0, 2), ([1], [2]))]),
         "rule_refuted": ("book, rule", [(W, kept), (U, kept)]),
     },
+    "steady": {
+        "is_steady": ("book, thing", [(W, (1, 0, 2)), (U, (1, 0)), (U, [1, 0])]),
+        "steady": ("book", [(W,), (U,)]),
+        "unsteady": ("book, order", [(W, (1, 0, 2)), (U, (1, 0))]),
+        "is_unsteady": ("book, order, thing", [(W, (1, 0, 2), ((5, 0, 4), (0, 1, 2))), (W, (1, 0, 2), ([1], [2]))]),
+        "helping": ("book", [(W,), (U,)]),
+        "harming": ("book", [(W,), (U,)]),
+    },
+    "better": {
+        "as_good": ("book, one, other", [(W, (1, 0, 2), (0, 1, 2)), (U, (1, 0), (0, 1))]),
+        "missed": ("book, one, other", [(W, (1, 0, 2), (0, 1, 2)), (U, (1, 0), (0, 1))]),
+        "is_missed": ("book, one, other, thing", [(W, (1, 0, 2), (0, 1, 2), (5, 0, 4)),
+                                                  (W, (1, 0, 2), (0, 1, 2), [[5], 0, 4])]),
+        "best": ("book", [(W,), (U,)]),
+        "classes": ("book", [(W,), (U,)]),
+    },
+    "shelves": {
+        "shelf": ("book", [(SMALL,), (Book(((0, 3), (1, 2))),)]),
+        "is_shelf": ("book, thing", [(SMALL, shelf(SMALL)), (SMALL, ([0, 1, 2], [1, 0, 2]))]),
+    },
+    "later": {
+        "regret": ("book, order", [(W, (1, 0, 2))]),
+        "least_regret": ("book", [(W,)]),
+        "regret_lot": ("book, order", [(W, (1, 0, 2)), (V, (0, 1, 2))]),
+        "is_regret_lot": ("book, order, thing", [(W, (1, 0, 2), ((5, 0, 4), (0, 1, 2))), (W, (1, 0, 2), ([1], [2]))]),
+        "worst_late": ("book, order", [(W, (1, 0, 2)), (U, (1, 0))]),
+        "worst_lot": ("book, order", [(W, (1, 0, 2)), (U, (1, 0))]),
+        "is_worst_lot": ("book, order, thing", [(W, (1, 0, 2), ((5, 0, 4), (0, 1, 2))), (W, (1, 0, 2), ([1], [2]))]),
+        "notice": ("book, order", [(W, (1, 0, 2))]),
+        "least_notice": ("book", [(W,)]),
+    },
 }
 
-INTEGERS = ["middle", "many_rows", "least_late", "lateness", "room", "room_any", "most", "most_of", "many_orders"]
+INTEGERS = ["middle", "many_rows", "least_late", "lateness", "room", "room_any", "most", "most_of", "many_orders",
+            "regret", "worst_late", "notice"]
+
+FLAGS = ["serves", "as_good"]
 
 LISTED = [(module, name) for module in CALLS for name in CALLS[module]]
 
@@ -175,5 +212,5 @@ class Kinds(unittest.TestCase):
                 answer = found(module, name)(*call)
                 if name in INTEGERS:
                     self.assertIs(type(answer), int, name)
-                if name == "serves":
+                if name in FLAGS:
                     self.assertIs(type(answer), bool, name)
