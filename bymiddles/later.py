@@ -136,7 +136,7 @@ def is_worst_lot(book, order, thing):
     """Whether a thing is such a pair."""
     check_one_of_few(book, order)
     hours = worst_group(book, order)[0]
-    if hours == 0 or not is_lot_and_row(book, thing) or thing[1] == ():
+    if hours == 0 or not is_lot_and_row(book, thing):
         return False
     lot, row = thing
     return is_served(book, row, lot) and lateness(book, order, lot) == hours

@@ -29,6 +29,10 @@ STRANGE = [
     deep(tuple), deep(list), deep(dict), (0,) * 9999, [0] * 9999, tuple(range(9999)), "a" * 9999,
 ]
 
+# None of these are prices for W.
+NO_PRICES = [[5, 1, 3], (5, 1), (5, 1, 3, 0), (), (5, 1, -1), (5, 1, 100), (5, True, 3), (False, 1, 3), (5, 1, None),
+             (5, 1, "3"), (5, 1, (3,)), (5, 1, 10 ** 39), {0: 5, 1: 1, 2: 3}, "513", ((5, 1, 3),)]
+
 
 def plain_serves(windows, row, lot):
     """Whether a row serves a lot."""
@@ -97,6 +101,12 @@ def small_books(seed, many, works, top):
         made = near_windows if at % 2 else random_windows
         books.append(Book(made(rnd, rnd.randint(1, works), rnd.randint(1, top))))
     return books
+
+
+def random_prices(rnd, works):
+    """Prices of several kinds, many of them alike or 0."""
+    kind = rnd.choice([[0], [1], [0, 1], [0, 99], [5, 6, 7], list(range(100)), list(range(4))])
+    return tuple(rnd.choice(kind) for _ in range(works))
 
 
 def random_lot(rnd, windows, longest):

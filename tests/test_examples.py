@@ -4,8 +4,10 @@ import unittest
 
 from bymiddles.bars import bar, barred
 from bymiddles.books import middle, within
+from bymiddles.bounds import most_within
 from bymiddles.holding import is_cover, most, most_of
 from bymiddles.later import least_regret, notice
+from bymiddles.leaving import best_part
 from bymiddles.orders import all_orders, one_order, throws
 from bymiddles.runs import broken, lateness, run
 from bymiddles.serving import ends, room_any
@@ -50,9 +52,16 @@ class Examples(unittest.TestCase):
     def test_e11(self):
         self.assertEqual(barred(W), [(0, 1, 2)])
 
+    def test_e12(self):
+        self.assertEqual(best_part(W, (5, 1, 3)), (8, (0, 2)))
+
     def test_e13(self):
         self.assertEqual(notice(W, (1, 0, 2)), 2)
 
     def test_e15(self):
         self.assertEqual(middle(W, 1), 7)
         self.assertEqual(within(W, 0), (1, 2))
+
+    def test_e17(self):
+        self.assertIsNone(most_within(W, (0, 1, 2), ((4, 9), (2, 9), (2, 9))))
+        self.assertEqual(most_within(U, (1, 0), ((3, 9), (2, 9))), 6)

@@ -8,10 +8,13 @@ import unittest
 from bymiddles.bars import bar
 from bymiddles.books import Book
 from bymiddles.errors import MiddleError
+from bymiddles.roofs import roof
 from bymiddles.shelves import shelf
 from tests.plain import STRANGE, U, V, W, deep
 
 SMALL = Book(((0, 8), (2, 5), (4, 7)))
+BOUNDS = ((1, 3), (0, 2), (0, 9))
+LONG = ((0, 9), (4, 9), (0, 9))
 
 
 def kept(group):
@@ -108,12 +111,38 @@ CALLS = {
         "notice": ("book, order", [(W, (1, 0, 2))]),
         "least_notice": ("book", [(W,)]),
     },
+    "leaving": {
+        "best_part": ("book, prices", [(W, (5, 1, 3)), (U, (1, 1))]),
+    },
+    "roofs": {
+        "roof": ("book, prices", [(W, (5, 1, 3)), (U, (1, 1))]),
+        "is_roof": ("book, prices, bound, thing", [(W, (5, 1, 3), 8, roof(W, (5, 1, 3))), (W, (5, 1, 3), 9, (["apart"],)),
+                                                   (W, (5, 1, 3), 9, ("split", 0, ("apart", ()), ["apart", []]))]),
+    },
+    "cuts": {
+        "least_cut": ("book", [(SMALL,), (Book(((0, 3), (1, 2))),)]),
+        "is_narrower": ("book, thing", [(W, W), (W, [W])]),
+    },
+    "bounds": {
+        "is_bounds": ("book, thing", [(W, BOUNDS), (W, ([0, 1], [0, 1], [0, 1]))]),
+        "keeps": ("book, bounds, lot", [(W, BOUNDS, (1, None, 2))]),
+        "most_within": ("book, row, bounds", [(W, (0, 1, 2), BOUNDS), (W, (0, 1, 2), LONG)]),
+        "filled_within": ("book, row, bounds", [(W, (0, 1, 2), BOUNDS), (W, (0, 1, 2), LONG)]),
+        "is_filled_within": ("book, row, bounds, thing", [(W, (0, 1, 2), BOUNDS, (3, 2, 4)),
+                                                          (W, (0, 1, 2), BOUNDS, ([3], 2, 4))]),
+        "route": ("book, row, bounds", [(W, (0, 1, 2), BOUNDS), (W, (0, 1, 2), LONG)]),
+        "is_route": ("book, row, bounds, thing", [(W, (0, 1, 2), BOUNDS, (("over", 0, 2),)),
+                                                  (W, (0, 1, 2), BOUNDS, [["over", 0, 2]])]),
+        "round_below": ("book, row, bounds", [(W, (0, 1, 2), BOUNDS), (W, (0, 1, 2), LONG)]),
+        "is_round_below": ("book, row, bounds, thing", [(W, (0, 1, 2), LONG, (("over", 1, 1), ("back", 1))),
+                                                        (W, (0, 1, 2), LONG, [["over", 1, 1], ["back", 1]])]),
+    },
 }
 
 INTEGERS = ["middle", "many_rows", "least_late", "lateness", "room", "room_any", "most", "most_of", "many_orders",
-            "regret", "worst_late", "notice"]
+            "regret", "worst_late", "notice", "most_within"]
 
-FLAGS = ["serves", "as_good"]
+FLAGS = ["serves", "as_good", "keeps"]
 
 LISTED = [(module, name) for module in CALLS for name in CALLS[module]]
 
@@ -210,7 +239,7 @@ class Kinds(unittest.TestCase):
         for module, name in LISTED:
             for call in CALLS[module][name][1]:
                 answer = found(module, name)(*call)
-                if name in INTEGERS:
+                if name in INTEGERS and answer is not None:
                     self.assertIs(type(answer), int, name)
                 if name in FLAGS:
                     self.assertIs(type(answer), bool, name)
