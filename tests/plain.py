@@ -9,6 +9,7 @@ from bymiddles.errors import BadBook, TooMany
 W = Book(((0, 10), (2, 5), (4, 9)))
 V = Book(((0, 6), (3, 8), (5, 12)))
 U = Book(((0, 10), (4, 6)))
+MILLION = 10 ** 6
 
 
 def deep(kind, depth=40):
@@ -32,6 +33,15 @@ STRANGE = [
 # None of these are prices for W.
 NO_PRICES = [[5, 1, 3], (5, 1), (5, 1, 3, 0), (), (5, 1, -1), (5, 1, 100), (5, True, 3), (False, 1, 3), (5, 1, None),
              (5, 1, "3"), (5, 1, (3,)), (5, 1, 10 ** 39), {0: 5, 1: 1, 2: 3}, "513", ((5, 1, 3),)]
+
+# None of these are bounds for W.
+NO_BOUNDS = [
+    (), ((0, 9),) * 2, ((0, 9),) * 4, [(0, 9)] * 3, ([0, 9],) * 3, ((0, 9), (0, 9), (9, 0)), ((0, 9), (0, 9), (0,)),
+    ((0, 9), (0, 9), (0, 9, 9)), ((0, 9), (0, 9), ()), ((0, 9), (-1, 9), (0, 9)), ((0, MILLION + 1), (0, 9), (0, 9)),
+    ((0, 9), (0, 9), (MILLION + 1, MILLION + 1)), ((False, 9), (0, 9), (0, 9)), ((0, True), (0, 9), (0, 9)),
+    ((0, 9), (0, 9), (0, None)), ((0, 9), (0, 9), None), ((0, 9), (0, 9), 9), ((0, 9), (0, 9), "09"), (0, 9, 9),
+    {0: (0, 9), 1: (0, 9), 2: (0, 9)},
+]
 
 
 def plain_serves(windows, row, lot):
@@ -107,6 +117,15 @@ def random_prices(rnd, works):
     """Prices of several kinds, many of them alike or 0."""
     kind = rnd.choice([[0], [1], [0, 1], [0, 99], [5, 6, 7], list(range(100)), list(range(4))])
     return tuple(rnd.choice(kind) for _ in range(works))
+
+
+def random_bounds(rnd, windows):
+    """Bounds, some of them wide, narrow, beyond the windows, or just one length."""
+    found = []
+    for first, last in windows:
+        least = rnd.choice([0, 0, 1, rnd.randint(0, last - first), rnd.randint(0, last)])
+        found.append((least, rnd.choice([least, least + rnd.randint(0, 3), last - first + least, MILLION])))
+    return tuple(found)
 
 
 def random_lot(rnd, windows, longest):

@@ -9,31 +9,14 @@ from bymiddles.bounds import (filled_within, is_bounds, is_filled_within, is_rou
                               round_below, route)
 from bymiddles.errors import NoBounds, NoLot, NoRow
 from bymiddles.holding import most
-from tests.plain import (STRANGE, U, W, changed, deep, great_book, group_there, near_windows, plain_serves, raised,
-                         random_row, random_windows, small_books, small_lots)
+from tests.plain import (MILLION, NO_BOUNDS, STRANGE, U, W, changed, deep, great_book, group_there, near_windows,
+                         plain_serves, raised, random_bounds, random_row, random_windows, small_books, small_lots)
 
-MILLION = 10 ** 6
 ROW = (0, 1, 2)
 FREE = ((0, 9), (0, 9), (0, 9))
 NARROW = ((1, 2), (1, 1), (0, 2))
 TOO_LONG = ((4, 9), (2, 9), (2, 9))
-NO_BOUNDS = [
-    (), ((0, 9),) * 2, ((0, 9),) * 4, [(0, 9)] * 3, ([0, 9],) * 3, ((0, 9), (0, 9), (9, 0)), ((0, 9), (0, 9), (0,)),
-    ((0, 9), (0, 9), (0, 9, 9)), ((0, 9), (0, 9), ()), ((0, 9), (-1, 9), (0, 9)), ((0, MILLION + 1), (0, 9), (0, 9)),
-    ((0, 9), (0, 9), (MILLION + 1, MILLION + 1)), ((False, 9), (0, 9), (0, 9)), ((0, True), (0, 9), (0, 9)),
-    ((0, 9), (0, 9), (0, None)), ((0, 9), (0, 9), None), ((0, 9), (0, 9), 9), ((0, 9), (0, 9), "09"), (0, 9, 9),
-    {0: (0, 9), 1: (0, 9), 2: (0, 9)},
-]
 NO_ROWS = [(), [0, 1], (0, 0), (0, 3), (0, True), (False,), (0, 1, 2, 0), ((0, 1),)]
-
-
-def random_bounds(rnd, windows):
-    """Bounds, some of them wide, narrow, beyond the windows, or just one length."""
-    found = []
-    for first, last in windows:
-        least = rnd.choice([0, 0, 1, rnd.randint(0, last - first), rnd.randint(0, last)])
-        found.append((least, rnd.choice([least, least + rnd.randint(0, 3), last - first + least, MILLION])))
-    return tuple(found)
 
 
 def samples(seed, many, works=4, top=7):

@@ -3,14 +3,17 @@
 import unittest
 
 from bymiddles.bars import bar, barred
-from bymiddles.books import middle, within
+from bymiddles.books import Book, middle, within
 from bymiddles.bounds import most_within
+from bymiddles.counting import many_lots, strongest
 from bymiddles.holding import is_cover, most, most_of
 from bymiddles.later import least_regret, notice
 from bymiddles.leaving import best_part
+from bymiddles.near import parting
 from bymiddles.orders import all_orders, one_order, throws
 from bymiddles.runs import broken, lateness, run
 from bymiddles.serving import ends, room_any
+from bymiddles.within import knot, one_within
 from tests.plain import U, V, W
 
 
@@ -62,6 +65,20 @@ class Examples(unittest.TestCase):
         self.assertEqual(middle(W, 1), 7)
         self.assertEqual(within(W, 0), (1, 2))
 
+    def test_e16(self):
+        book = Book(((0, 3), (0, 3), (1, 2), (2, 5), (3, 5)))
+        self.assertEqual(knot(book, ((1, 1), (1, 1), (1, 2), (0, 2), (1, 1))), (0, 1, 2, 3, 4))
+
     def test_e17(self):
         self.assertIsNone(most_within(W, (0, 1, 2), ((4, 9), (2, 9), (2, 9))))
         self.assertEqual(most_within(U, (1, 0), ((3, 9), (2, 9))), 6)
+
+    def test_e18(self):
+        self.assertEqual(one_within(W, ((1, 3), (1, 3), (1, 3))), (1, 2, 0))
+
+    def test_e19(self):
+        self.assertEqual(many_lots(W, (1, 0, 2)), 216)
+        self.assertEqual(strongest(W), (216, (1, 0, 2)))
+
+    def test_e20(self):
+        self.assertEqual(parting(W), ((0,), (1, 2)))

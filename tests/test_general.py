@@ -9,12 +9,14 @@ from bymiddles.bars import bar
 from bymiddles.books import Book
 from bymiddles.errors import MiddleError
 from bymiddles.roofs import roof
+from bymiddles.seeing import doubt, plan
 from bymiddles.shelves import shelf
 from tests.plain import STRANGE, U, V, W, deep
 
 SMALL = Book(((0, 8), (2, 5), (4, 7)))
 BOUNDS = ((1, 3), (0, 2), (0, 9))
 LONG = ((0, 9), (4, 9), (0, 9))
+FREE = ((0, 9), (0, 9), (0, 9))
 
 
 def kept(group):
@@ -137,10 +139,41 @@ CALLS = {
         "is_round_below": ("book, row, bounds, thing", [(W, (0, 1, 2), LONG, (("over", 1, 1), ("back", 1))),
                                                         (W, (0, 1, 2), LONG, [["over", 1, 1], ["back", 1]])]),
     },
+    "within": {
+        "is_one_within": ("book, bounds, thing", [(W, BOUNDS, (1, 2, 0)), (W, BOUNDS, [1, [2], 0])]),
+        "one_within": ("book, bounds", [(W, ((1, 3), (1, 3), (1, 3))), (W, FREE)]),
+        "missed_within": ("book, bounds, order", [(W, FREE, (1, 0, 2)), (W, FREE, (0, 1, 2)), (V, FREE, (0, 1, 2))]),
+        "is_missed_within": ("book, bounds, order, thing", [(W, FREE, (1, 0, 2), ((5, 0, 4), (0, 1, 2))),
+                                                            (W, FREE, (1, 0, 2), ([5, 0, 4], [0, 1, 2]))]),
+        "knot": ("book, bounds", [(W, FREE), (W, ((1, 3), (1, 3), (1, 3)))]),
+    },
+    "seeing": {
+        "plan": ("book, group", [(SMALL, (0, 1)), (SMALL, (0, 1, 2))]),
+        "doubt": ("book, group", [(SMALL, (0, 1)), (SMALL, (0, 1, 2))]),
+        "is_plan": ("book, group, thing", [(SMALL, (0, 1), plan(SMALL, (0, 1))), (SMALL, (2,), (2, [[]] * 4))]),
+        "is_doubt": ("book, group, thing", [(SMALL, (0, 1, 2), doubt(SMALL, (0, 1, 2))), (SMALL, (2,), {2: (0, {})}),
+                                            (SMALL, (0, 1), {0: [0, {1: [0, {}]}], 1: [0, {0: [0, {}]}]})]),
+        "helped": ("book", [(SMALL,), (Book(((0, 3), (2, 3), (0, 4))),)]),
+        "lost": ("book", [(SMALL,), (Book(((0, 3), (2, 3), (0, 4))),)]),
+    },
+    "counting": {
+        "many_lots": ("book, row", [(W, (1, 0, 2)), (W, ())]),
+        "lot_at": ("book, row, number", [(W, (1, 0, 2), 99)]),
+        "lot_number": ("book, row, lot", [(W, (0, 1, 2), (5, 0, 4))]),
+        "many_served": ("book", [(SMALL,)]),
+        "strongest": ("book", [(W,)]),
+    },
+    "near": {
+        "swaps": ("book, order", [(U, (1, 0)), (V, (2, 1, 0)), (W, (0, 1, 2))]),
+        "nearest": ("book, order", [(U, (1, 0)), (V, (2, 1, 0)), (W, (0, 1, 2))]),
+        "parting": ("book", [(W,), (U,)]),
+        "is_parting": ("book, thing", [(W, ((0,), (1, 2))), (W, [[0], (1, 2)])]),
+        "welcome": ("book, most", [(V, 9), (W, 20)]),
+    },
 }
 
 INTEGERS = ["middle", "many_rows", "least_late", "lateness", "room", "room_any", "most", "most_of", "many_orders",
-            "regret", "worst_late", "notice", "most_within"]
+            "regret", "worst_late", "notice", "most_within", "many_lots", "lot_number", "many_served", "swaps"]
 
 FLAGS = ["serves", "as_good", "keeps"]
 
@@ -180,8 +213,6 @@ class General(unittest.TestCase):
             function = found(module, name)
             self.assertEqual(function.__module__, "bymiddles." + module)
             self.assertEqual(", ".join(inspect.signature(function).parameters), CALLS[module][name][0], name)
-        self.assertEqual(Book.__module__, "bymiddles.books")
-        self.assertIn("__eq__", vars(Book))
         self.assertEqual(vars(W), {"windows": ((0, 10), (2, 5), (4, 9))})
 
     def test_arguments_stay_as_they_were(self):
@@ -219,7 +250,7 @@ class General(unittest.TestCase):
     def test_wrong_arguments_raise_no_other_errors(self):
         for module, name in LISTED:
             for call in CALLS[module][name][1]:
-                for at in range(1, len(call)):
+                for at in range(0 if name == "read_book" else 1, len(call)):
                     if name not in ("joined", "rule_refuted"):
                         self.no_other_error(found(module, name), call, at)
 
