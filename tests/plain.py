@@ -3,7 +3,9 @@
 import random
 from itertools import permutations, product
 
+from bymiddles.bench import Bench
 from bymiddles.books import Book, joined, shifted
+from bymiddles.desk import Desk
 from bymiddles.errors import BadBook, TooMany
 
 W = Book(((0, 10), (2, 5), (4, 9)))
@@ -27,6 +29,7 @@ STRANGE = [
     ("a", "b"), ((0,),), ((0, 1), (2, 1)), (0, 0), (-1,), (-1, -2), (0, -1), (40, 41), (10 ** 39,), ([],),
     ({},), (0, [1]), (0, (1, 2), None), range(3), range(0), slice(1), Ellipsis, NotImplemented, int, dict, len, deep,
     lambda: 0, object(), iter([]), memoryview(b"ab"), W, Book(((0, 0),)), BadBook(), TooMany(3), (W,), [W], {0: W},
+    Bench(W, (0, 1, 2)), (Bench(W, (0, 1, 2)),), Desk(), {"desk": Desk()}, Book, Bench, Desk, BadBook, (Book, Desk),
     deep(tuple), deep(list), deep(dict), (0,) * 9999, [0] * 9999, tuple(range(9999)), "a" * 9999,
 ]
 

@@ -13,6 +13,7 @@ from bymiddles.near import parting
 from bymiddles.orders import all_orders, one_order, throws
 from bymiddles.runs import broken, lateness, run
 from bymiddles.serving import ends, room_any
+from bymiddles.texts import book_text
 from bymiddles.within import knot, one_within
 from tests.plain import U, V, W
 
@@ -60,6 +61,9 @@ class Examples(unittest.TestCase):
 
     def test_e13(self):
         self.assertEqual(notice(W, (1, 0, 2)), 2)
+
+    def test_e14(self):
+        self.assertEqual(book_text(U), "work 0 10\nwork 4 6\n")
 
     def test_e15(self):
         self.assertEqual(middle(W, 1), 7)

@@ -170,6 +170,23 @@ CALLS = {
         "is_parting": ("book, thing", [(W, ((0,), (1, 2))), (W, [[0], (1, 2)])]),
         "welcome": ("book, most", [(V, 9), (W, 20)]),
     },
+    "texts": {
+        "book_text": ("book", [(W,)]),
+        "lot_text": ("book, lot", [(W, (5, None, 4))]),
+    },
+    "reading": {
+        "read_book": ("text", [("work 0 10\nwork 4 6\n",)]),
+        "read_lot": ("book, text", [(U, "length 5\naway\n")]),
+    },
+}
+
+# Each class with its module, the arguments with which it is made, and its methods with their arguments.
+CLASSES = {
+    "Book": ("books", "windows", {"__eq__": "other"}),
+    "Bench": ("bench", "book, order", {
+        "now": "", "turn": "", "done": "length", "away": "", "lot": "", "late": "", "spare": "", "blame": "", "back": "",
+        "depth": "", "copy": "", "trying": "action"}),
+    "Desk": ("desk", "", {"tell": "line", "undoable": ""}),
 }
 
 INTEGERS = ["middle", "many_rows", "least_late", "lateness", "room", "room_any", "most", "most_of", "many_orders",
@@ -214,6 +231,22 @@ class General(unittest.TestCase):
             self.assertEqual(function.__module__, "bymiddles." + module)
             self.assertEqual(", ".join(inspect.signature(function).parameters), CALLS[module][name][0], name)
         self.assertEqual(vars(W), {"windows": ((0, 10), (2, 5), (4, 9))})
+
+    def test_all_of_the_interface(self):
+        self.assertEqual(sorted(CALLS), sorted(
+            "books runs serving holding orders bars strangers steady better shelves later leaving roofs cuts bounds within "
+            "seeing counting near texts reading".split()))
+        self.assertEqual(len(LISTED), 11 + 6 + 6 + 7 + 6 + 3 + 3 + 6 + 5 + 2 + 9 + 1 + 2 + 2 + 9 + 5 + 6 + 5 + 5 + 2 + 2)
+
+    def test_classes(self):
+        for name, (module, made_with, methods) in CLASSES.items():
+            one = found(module, name)
+            self.assertEqual(one.__module__, "bymiddles." + module)
+            self.assertEqual(", ".join(inspect.signature(one).parameters), made_with)
+            for method, arguments in methods.items():
+                self.assertTrue(inspect.isfunction(vars(one)[method]), method)
+                parameters = list(inspect.signature(vars(one)[method]).parameters)
+                self.assertEqual((parameters[0], ", ".join(parameters[1:])), ("self", arguments), method)
 
     def test_arguments_stay_as_they_were(self):
         for module, name in LISTED:

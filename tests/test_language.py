@@ -24,7 +24,7 @@ BARRED = """type typing enum Enum Flag Generic Protocol ABC register mro element
 vars super help dir getattr setattr hasattr""".split()
 
 NODES = (ast.Lambda, ast.GeneratorExp, ast.Yield, ast.YieldFrom, ast.Global, ast.Nonlocal, ast.AsyncFunctionDef,
-         ast.Try, ast.With, ast.Div, ast.Set, ast.SetComp, ast.Starred, ast.NamedExpr, ast.Import, ast.Assert)
+         ast.With, ast.Div, ast.Set, ast.SetComp, ast.Starred, ast.NamedExpr, ast.Import, ast.Assert)
 
 
 def files():
@@ -106,13 +106,21 @@ class Language(unittest.TestCase):
                     self.assertNotIsInstance(node.value, (float, complex))
                 if isinstance(node, ast.FunctionDef):
                     self.assertEqual(node.decorator_list, [])
+                if isinstance(node, ast.Try):
+                    # Nothing is caught; what is put back in the end is put back by plain assignments.
+                    self.assertEqual(node.handlers + node.orelse, [], name)
+                    for row in node.finalbody:
+                        self.assertIsInstance(row, ast.Assign)
+                        self.assertIsInstance(row.value, (ast.Name, ast.Attribute))
 
     def test_statements_of_modules(self):
         for name in files():
             for node in ast.parse(text_of(name)).body:
                 self.assertIsInstance(node, (ast.Expr, ast.ImportFrom, ast.FunctionDef, ast.ClassDef, ast.Assign))
-                if isinstance(node, (ast.Expr, ast.Assign)):
-                    self.assertIsInstance(node.value, ast.Constant)
+                if isinstance(node, (ast.Expr, ast.Assign)) and not isinstance(node.value, ast.Constant):
+                    self.assertIsInstance(node.value, ast.Dict)
+                    for value in node.value.keys + node.value.values:
+                        self.assertIsInstance(value, (ast.Constant, ast.Name))
 
     def test_names(self):
         for name in files():
@@ -131,11 +139,13 @@ class Language(unittest.TestCase):
     def test_calls(self):
         for name in files():
             own = defined(ast.parse(text_of(name)))
+            methods = [row.name for node in nodes_of(name) if isinstance(node, ast.ClassDef) for row in node.body
+                       if isinstance(row, ast.FunctionDef)]
             for node in nodes_of(name):
                 if isinstance(node, ast.Call) and isinstance(node.func, ast.Name):
-                    self.assertIn(node.func.id, own + BUILTINS + ["rule"], (name, node.lineno))
+                    self.assertIn(node.func.id, own + BUILTINS + ["rule", "action"], (name, node.lineno))
                 if isinstance(node, ast.Call) and isinstance(node.func, ast.Attribute):
-                    self.assertIn(node.func.attr, METHODS, (name, node.lineno))
+                    self.assertIn(node.func.attr, METHODS + methods, (name, node.lineno))
 
     def test_ranges_and_views_are_iterated_at_once(self):
         for name in files():
@@ -144,6 +154,16 @@ class Language(unittest.TestCase):
             for node in nodes:
                 if called(node) in ITERATORS:
                     self.assertIn(id(node), places, (name, node.lineno))
+
+    def test_no_name_is_a_method_and_an_attribute(self):
+        for name in files():
+            for node in nodes_of(name):
+                if isinstance(node, ast.ClassDef):
+                    methods = [row.name for row in node.body if isinstance(row, ast.FunctionDef)]
+                    self.assertEqual(len(methods), len(set(methods)), name)
+                    for inner in ast.walk(node):
+                        if isinstance(inner, ast.Attribute) and isinstance(inner.ctx, ast.Store):
+                            self.assertNotIn(inner.attr, methods, name)
 
     def test_imports(self):
         homes = {}
